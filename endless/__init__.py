@@ -1,0 +1,1 @@
+"""Endless: whole numbers, fractions and decimals without end, kept in limbs of sixteen bits."""

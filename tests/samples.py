@@ -1,0 +1,53 @@
+"""Numbers and a test case that the tests share; naturals are made here without the program."""
+
+import unittest
+
+SMALL = [0, 1, 2, 3, 7, 15, 16, 17, 255, 256, 257, 1000, 32767, 32768, 32769]
+LIMB_EDGES = [65534, 65535, 65536, 65537, 2 * 65536 - 1, 2 * 65536, 65535 * 65536, 65536 ** 2 - 1, 65536 ** 2]
+
+
+def around_powers(exponents):
+    numbers = []
+    for exponent in exponents:
+        numbers += [2 ** exponent - 1, 2 ** exponent, 2 ** exponent + 1]
+    return numbers
+
+
+def mixed(limbs, seed):
+    """A number of just so many limbs, always the same one for the same seed."""
+    state = seed
+    number = 0
+    for _ in range(limbs):
+        state = (state * 6364136223846793005 + 1442695040888963407) % 2 ** 64
+        number = number * 65536 + (state >> 40) % 65536
+    top = 65536 ** (limbs - 1)
+    return number if number >= top else number + top
+
+
+POWERS = around_powers([15, 16, 17, 31, 32, 33, 47, 48, 49, 64, 80, 160, 1000])
+MIXED = [mixed(limbs, seed) for limbs in (1, 2, 3, 5, 8, 20) for seed in (1, 2, 3)]
+NUMBERS = SMALL + LIMB_EDGES + POWERS + MIXED
+GREAT = around_powers([16 * 1001, 16 * 1999, 16 * 2000 - 1]) + [mixed(1001, 4), mixed(1500, 5), mixed(2000, 6)]
+GREAT.append(65536 ** 2000 - 1)
+PAIRS = [(one, other) for one in NUMBERS for other in NUMBERS]
+GREAT_PAIRS = [(one, other) for one in GREAT for other in GREAT + [0, 1, 65535, 65536]]
+
+
+def limbs_of(number):
+    length = (number.bit_length() + 15) // 16
+    octets = number.to_bytes(2 * length, "little")
+    return tuple(octets[2 * place] + 256 * octets[2 * place + 1] for place in range(length))
+
+
+class NaturalCase(unittest.TestCase):
+    def assert_natural(self, told, number):
+        """That what is told is the one natural of the number: of the right kind down to each limb."""
+        self.assertIs(type(told), tuple)
+        self.assertEqual({type(limb) for limb in told} - {int}, set())
+        self.assertEqual(told, limbs_of(number))
+
+    def assert_number(self, told, number):
+        """That what is told is the whole number, and not True or False in its place."""
+        self.assertIs(type(told), int)
+        # Python won't write out very great numbers, so a failure must not try to show them.
+        self.assertTrue(told == number, "another number is told")

@@ -1,0 +1,30 @@
+"""The names, arguments and defaults of the interface, as the document tells them."""
+
+import importlib
+import inspect
+import unittest
+
+CALLS = {
+    "limbs": ["natural_of(number)", "number_of(natural)", "trimmed(limbs)"],
+    "sums": [
+        "compared(one, other)", "plus(one, other)", "minus(one, other)", "total_of(naturals)", "carries(one, other)",
+    ],
+    "bits": [
+        "and_of(one, other)", "or_of(one, other)", "xor_of(one, other)", "moved_up(natural, count=1)",
+        "moved_down(natural, count=1)", "bit_at(natural, place)", "bits_of(natural)", "ones_of(natural)",
+    ],
+}
+
+
+class InterfaceTest(unittest.TestCase):
+    def test_each_call_is_there_as_it_stands(self):
+        for file, calls in CALLS.items():
+            module = importlib.import_module("endless." + file)
+            for call in calls:
+                with self.subTest(call):
+                    name = call.partition("(")[0]
+                    self.assertEqual(name + str(inspect.signature(getattr(module, name))), call)
+
+
+if __name__ == "__main__":
+    unittest.main()
