@@ -1,6 +1,6 @@
 """Looks a package's files over for what LANGUAGE.md rules out, as far as the form of the code shows it.
 
-It does not see all: L11, L18 to L20, L23, L24, L26 and L28 are left to the reader, and some finer words of others.
+It does not see all: L9, L11, L13, L18, L22 to L24, L26, L28 and the finer words of other rules are left to the reader.
 """
 
 import ast

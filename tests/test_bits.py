@@ -37,30 +37,28 @@ class JoinedTest(NaturalCase):
 
     def test_pairs(self):
         for one, other in PAIRS + GREAT_PAIRS:
-            with self.subTest():
-                self.assert_joined(one, other)
+            self.assert_joined(one, other)
 
     def test_highest_limbs_that_vanish(self):
         high = mixed(1000, 21) * 65536 ** 500
         for low in (0, 1, mixed(500, 22)):
-            with self.subTest():
-                self.assert_joined(high + low, high)
-                self.assert_joined(high + low, low)
-                self.assert_joined(high, high)
+            self.assert_joined(high + low, high)
+            self.assert_joined(high + low, low)
+            self.assert_joined(high, high)
 
 
 class MovedTest(NaturalCase):
     def test_moved_up(self):
         for number in NUMBERS:
-            for count in COUNTS:
-                with self.subTest(number, count=count):
+            with self.subTest(number):
+                for count in COUNTS:
                     self.assert_natural(moved_up(limbs_of(number), count), number * 2 ** count)
 
     def test_moved_down(self):
         for number in NUMBERS:
             last = number.bit_length()
-            for count in COUNTS + [max(last - 1, 0), last, last + 1, last + 16, last + 1000]:
-                with self.subTest(number, count=count):
+            with self.subTest(number):
+                for count in COUNTS + [max(last - 1, 0), last, last + 1, last + 16, last + 1000]:
                     self.assert_natural(moved_down(limbs_of(number), count), number // 2 ** count)
 
     def test_great_ones(self):
@@ -78,9 +76,8 @@ class MovedTest(NaturalCase):
 
     def test_down_to_the_last_bit(self):
         for number in GREAT:
-            with self.subTest():
-                self.assertEqual(moved_down(limbs_of(number), number.bit_length() - 1), (1,))
-                self.assertEqual(moved_down(limbs_of(number), number.bit_length()), ())
+            self.assertEqual(moved_down(limbs_of(number), number.bit_length() - 1), (1,))
+            self.assertEqual(moved_down(limbs_of(number), number.bit_length()), ())
 
     def test_nought_moved_up_however_far_is_nought(self):
         for count in COUNTS + VAST:
@@ -89,9 +86,8 @@ class MovedTest(NaturalCase):
 
     def test_the_count_left_out_is_one(self):
         for number in NUMBERS + GREAT[:4]:
-            with self.subTest():
-                self.assert_natural(moved_up(limbs_of(number)), number * 2)
-                self.assert_natural(moved_down(limbs_of(number)), number // 2)
+            self.assert_natural(moved_up(limbs_of(number)), number * 2)
+            self.assert_natural(moved_down(limbs_of(number)), number // 2)
 
     def test_a_count_below_nought_is_refused(self):
         for natural in [(), (1,), (5, 6, 7), limbs_of(GREAT[0])]:
@@ -106,16 +102,15 @@ class MovedTest(NaturalCase):
 class BitAtTest(NaturalCase):
     def test_within_at_and_beyond_the_last_bit(self):
         for number in NUMBERS:
-            for place in range(number.bit_length() + 20):
-                with self.subTest(number, place=place):
+            with self.subTest(number):
+                for place in range(number.bit_length() + 20):
                     self.assert_number(bit_at(limbs_of(number), place), (number >> place) % 2)
 
     def test_great_ones(self):
         for number in GREAT:
             last = number.bit_length() - 1
             for place in list(range(0, last + 40, 101)) + [last - 1, last, last + 1]:
-                with self.subTest(place):
-                    self.assert_number(bit_at(limbs_of(number), place), (number >> place) % 2)
+                self.assert_number(bit_at(limbs_of(number), place), (number >> place) % 2)
 
     def test_far_beyond_the_last_bit(self):
         for natural in [(), (1,), (65535, 65535), limbs_of(GREAT[-1])]:
@@ -140,9 +135,8 @@ class CountedTest(NaturalCase):
 
     def test_numbers(self):
         for number in NUMBERS + GREAT:
-            with self.subTest():
-                self.assert_number(bits_of(limbs_of(number)), number.bit_length())
-                self.assert_number(ones_of(limbs_of(number)), bin(number).count("1"))
+            self.assert_number(bits_of(limbs_of(number)), number.bit_length())
+            self.assert_number(ones_of(limbs_of(number)), bin(number).count("1"))
 
 
 if __name__ == "__main__":
