@@ -66,7 +66,7 @@ def file_faults(name, text):
 
 
 def tree_faults(name, tree):
-    found = top_faults(tree)
+    found = top_faults(tree) + shadow_faults(tree)
     for node in ast.walk(tree):
         line = getattr(node, "lineno", 0)
         found += [(rule, line, broken) for rule, broken in node_faults(node)]
@@ -97,6 +97,20 @@ def top_faults(tree):
         inner = [part for part in ast.walk(node) if part is not node]
         found += [("L15", node.lineno, isinstance(part, ast.ClassDef)) for part in inner]
         found += [("L2", node.lineno, isinstance(part, (ast.Import, ast.ImportFrom))) for part in inner]
+    return found
+
+
+def shadow_faults(tree):
+    taken = {node.name for node in tree.body if isinstance(node, ast.ClassDef)}
+    for node in tree.body:
+        if isinstance(node, ast.ImportFrom):
+            taken |= {alias.asname or alias.name for alias in node.names}
+    found = []
+    for node in ast.walk(tree):
+        if isinstance(node, ast.arg):
+            found.append(("L15", node.lineno, node.arg in taken))
+        if isinstance(node, ast.Name) and isinstance(node.ctx, ast.Store):
+            found.append(("L15", node.lineno, node.id in taken))
     return found
 
 

@@ -1,5 +1,6 @@
 """Numbers and a test case that the tests share; naturals are made here without the program."""
 
+import copy
 import unittest
 
 SMALL = [0, 1, 2, 3, 7, 15, 16, 17, 255, 256, 257, 1000, 32767, 32768, 32769]
@@ -30,6 +31,8 @@ NUMBERS = SMALL + LIMB_EDGES + POWERS + MIXED
 GREAT = around_powers([16 * 1001, 16 * 1999, 16 * 2000 - 1]) + [mixed(1001, 4), mixed(1500, 5), mixed(2000, 6)]
 GREAT.append(65536 ** 2000 - 1)
 PAIRS = [(one, other) for one in NUMBERS for other in NUMBERS]
+FULL = [65536 ** limbs - 1 for limbs in (1, 2, 3, 4, 5, 8, 9, 40)]
+BELOW = [-1, -2, -15, -16, -17, -10 ** 30]
 GREAT_PAIRS = [(one, other) for one in GREAT for other in GREAT + [0, 1, 65535, 65536]]
 
 
@@ -46,8 +49,37 @@ class NaturalCase(unittest.TestCase):
         self.assertEqual({type(limb) for limb in told} - {int}, set())
         self.assertEqual(told, limbs_of(number))
 
+    def assert_naturals(self, told, numbers):
+        """That what is told is a list of the naturals of these numbers."""
+        self.assertIs(type(told), list)
+        self.assertEqual(len(told), len(numbers))
+        for natural, number in zip(told, numbers):
+            self.assert_natural(natural, number)
+
     def assert_number(self, told, number):
         """That what is told is the whole number, and not True or False in its place."""
         self.assertIs(type(told), int)
         # Python won't write out very great numbers, so a failure must not try to show them.
         self.assertTrue(told == number, "another number is told")
+
+    def assert_tuple(self, told, length):
+        self.assertIs(type(told), tuple)
+        self.assertEqual(len(told), length)
+
+    def assert_told_alike(self, ask, *handed):
+        """That what is handed in stays as it was, and that the same is told when it is asked again."""
+        kept = copy.deepcopy(handed)
+        told = copy.deepcopy(ask(*handed))
+        self.assertEqual(handed, kept)
+        self.assertEqual(ask(*handed), told)
+        self.assertEqual(ask(*kept), told)
+
+    def assert_own_list(self, ask, list_in=lambda told: told):
+        """That a list that is told is the asker's own: emptied or made longer, it is told again as it was."""
+        kept = list(list_in(ask()))
+        for change in (list.clear, lambda told: told.append((5,)), lambda told: told.insert(0, (5,))):
+            told = list_in(ask())
+            change(told)
+            again = list_in(ask())
+            self.assertIsNot(again, told)
+            self.assertEqual(again, kept)

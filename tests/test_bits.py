@@ -2,10 +2,9 @@ import unittest
 
 from endless.bits import and_of, bit_at, bits_of, moved_down, moved_up, ones_of, or_of, xor_of
 from endless.errors import NoCount
-from tests.samples import GREAT, GREAT_PAIRS, NUMBERS, PAIRS, NaturalCase, limbs_of, mixed
+from tests.samples import BELOW, GREAT, GREAT_PAIRS, NUMBERS, PAIRS, NaturalCase, limbs_of, mixed
 
 COUNTS = [0, 1, 2, 7, 15, 16, 17, 31, 32, 33, 48, 100]
-BELOW = [-1, -2, -15, -16, -17, -10 ** 30]
 VAST = [10 ** 9, 2 ** 63, 2 ** 64, 10 ** 30]
 
 

@@ -13,6 +13,13 @@ CALLS = {
         "and_of(one, other)", "or_of(one, other)", "xor_of(one, other)", "moved_up(natural, count=1)",
         "moved_down(natural, count=1)", "bit_at(natural, place)", "bits_of(natural)", "ones_of(natural)",
     ],
+    "products": [
+        "times_limb(natural, limb)", "times(one, other)", "squared(natural)", "power_of(natural, count)",
+        "rows_of(one, other)",
+    ],
+    "halves": ["halves_of(natural, count)", "split_of(one, other)", "times_split(one, other, least=8)"],
+    "division": ["parted_limb(natural, limb)", "parted(one, other)", "steps_of(one, other)"],
+    "commons": ["common_of(one, other)"],
 }
 
 

@@ -26,6 +26,8 @@ BROKEN = [
     ("L14", "some.py", "def f():\n\tpass\n"),
     ("L15", "some.py", "A = 1\nA = 2\n"),
     ("L15", "some.py", "def f(sum):\n    pass\n"),
+    ("L15", "some.py", "from endless.other import name\n\n\ndef f(name):\n    pass\n"),
+    ("L15", "some.py", "class A:\n    pass\n\n\ndef f():\n    A = 1\n"),
     ("L16", "some.py", "from endless.other import name\n"),
     ("L16", "some.py", "from endless.some import f\n\n\ndef f():\n    pass\n"),
     ("L17", "some.py", "# of this type\n"),
