@@ -36,10 +36,21 @@ BELOW = [-1, -2, -15, -16, -17, -10 ** 30]
 GREAT_PAIRS = [(one, other) for one in GREAT for other in GREAT + [0, 1, 65535, 65536]]
 
 
+def either_sign(numbers):
+    return sorted(set(numbers) | {-number for number in numbers})
+
+
+SIGNED = either_sign(NUMBERS + FULL)
+
+
 def limbs_of(number):
     length = (number.bit_length() + 15) // 16
     octets = number.to_bytes(2 * length, "little")
     return tuple(octets[2 * place] + 256 * octets[2 * place + 1] for place in range(length))
+
+
+def whole_by(number):
+    return ((number > 0) - (number < 0), limbs_of(abs(number)))
 
 
 class NaturalCase(unittest.TestCase):
@@ -83,3 +94,11 @@ class NaturalCase(unittest.TestCase):
             again = list_in(ask())
             self.assertIsNot(again, told)
             self.assertEqual(again, kept)
+
+
+class WholeCase(NaturalCase):
+    def assert_whole(self, told, number):
+        """That what is told is the one whole of the number: of the right kind down to its sign and each limb."""
+        self.assert_tuple(told, 2)
+        self.assert_number(told[0], (number > 0) - (number < 0))
+        self.assert_natural(told[1], abs(number))

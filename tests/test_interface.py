@@ -20,6 +20,16 @@ CALLS = {
     "halves": ["halves_of(natural, count)", "split_of(one, other)", "times_split(one, other, least=8)"],
     "division": ["parted_limb(natural, limb)", "parted(one, other)", "steps_of(one, other)"],
     "commons": ["common_of(one, other)"],
+    "roots": ["power_rest(natural, count, other)", "root_of(natural, count=2)"],
+    "wholes": [
+        "whole_of(number)", "value_of(whole)", "turned(whole)", "sized(whole)", "ranked(one, other)",
+        "added(one, other)", "taken(one, other)", "multiplied(one, other)", "raised(whole, count)",
+    ],
+    "quotients": ["divided(one, other, way='down')"],
+    "twos": [
+        "whole_and(one, other)", "whole_or(one, other)", "whole_xor(one, other)", "inverted(whole)",
+        "shifted(whole, count)",
+    ],
 }
 
 
