@@ -2,6 +2,7 @@
 
 import copy
 import unittest
+from fractions import Fraction
 
 SMALL = [0, 1, 2, 3, 7, 15, 16, 17, 255, 256, 257, 1000, 32767, 32768, 32769]
 LIMB_EDGES = [65534, 65535, 65536, 65537, 2 * 65536 - 1, 2 * 65536, 65535 * 65536, 65536 ** 2 - 1, 65536 ** 2]
@@ -23,6 +24,14 @@ def mixed(limbs, seed):
         number = number * 65536 + (state >> 40) % 65536
     top = 65536 ** (limbs - 1)
     return number if number >= top else number + top
+
+
+def sums_row(length, one=1, other=1):
+    """A row in which each number is the sum of the two ahead of it."""
+    row = [one, other]
+    while len(row) < length:
+        row.append(row[-1] + row[-2])
+    return row
 
 
 POWERS = around_powers([15, 16, 17, 31, 32, 33, 47, 48, 49, 64, 80, 160, 1000])
@@ -51,6 +60,39 @@ def limbs_of(number):
 
 def whole_by(number):
     return ((number > 0) - (number < 0), limbs_of(abs(number)))
+
+
+def fraction_by(fraction):
+    return (whole_by(fraction.numerator), limbs_of(fraction.denominator))
+
+
+class LikeAll:
+    """What says that it is the same as anything."""
+
+    def __eq__(self, other):
+        return True
+
+    def __hash__(self):
+        return hash("down")
+
+
+class LikeNothing:
+    """What can't even be compared, asked for its truth or shown."""
+
+    def refuse(self, *others):
+        raise RuntimeError("not to be asked")
+
+    __eq__ = __ne__ = __hash__ = __bool__ = __str__ = __repr__ = __len__ = refuse
+
+
+NO_WAY_TEXTS = [
+    "", " ", "DOWN", "Down", "UP", "ZERO", "Near", " down", "down ", "down\n", "downup", "dow", "d", "nearest", "half",
+    "half_", "half_up", "half even", "HALF_EVEN", "even", "floor", "0",
+]
+NO_TEXTS = [
+    None, 0, 1, -1, 7, 10 ** 5000, True, False, 1.5, b"down", (), ("down",), ["down"], [], {}, {"down": "down"},
+    {"down"}, frozenset(["down"]), (0, ()), object(), str, LikeAll(), LikeNothing(),
+]
 
 
 class NaturalCase(unittest.TestCase):
@@ -102,3 +144,12 @@ class WholeCase(NaturalCase):
         self.assert_tuple(told, 2)
         self.assert_number(told[0], (number > 0) - (number < 0))
         self.assert_natural(told[1], abs(number))
+
+
+class FractionCase(WholeCase):
+    def assert_fraction(self, told, number):
+        """That what is told is the one fraction of the number: of the right kind down to each limb."""
+        fraction = Fraction(number)
+        self.assert_tuple(told, 2)
+        self.assert_whole(told[0], fraction.numerator)
+        self.assert_natural(told[1], fraction.denominator)

@@ -2,7 +2,7 @@ import math
 import unittest
 
 from endless.commons import common_of
-from tests.samples import FULL, GREAT, NUMBERS, NaturalCase, limbs_of, mixed
+from tests.samples import FULL, GREAT, NUMBERS, NaturalCase, limbs_of, mixed, sums_row
 
 SOME_PAIRS = [((), ()), ((), (7,)), ((7,), ()), ((12,), (18,)), ((18,), (12,)), ((1, 2, 3), (4, 5))]
 
@@ -13,14 +13,6 @@ def quotients_between(one, other):
         quotients.append(one // other)
         one, other = other, one % other
     return quotients
-
-
-def sums_row(length, one=1, other=1):
-    """A row in which each number is the sum of the two ahead of it."""
-    row = [one, other]
-    while len(row) < length:
-        row.append(row[-1] + row[-2])
-    return row
 
 
 class CommonTest(NaturalCase):

@@ -30,6 +30,13 @@ CALLS = {
         "whole_and(one, other)", "whole_or(one, other)", "whole_xor(one, other)", "inverted(whole)",
         "shifted(whole, count)",
     ],
+    "bonds": ["bonds_of(one, other)"],
+    "fractions": [
+        "fraction_of(above, below=None)", "frac_plus(one, other)", "frac_minus(one, other)", "frac_times(one, other)",
+        "frac_over(one, other)", "frac_power(fraction, count)", "frac_ranked(one, other)",
+    ],
+    "wholing": ["nearest_whole(fraction, way='half_even')"],
+    "chains": ["chain_of(fraction)", "unchained(wholes)", "approaches(fraction)", "closest(fraction, most)"],
 }
 
 
